@@ -1,0 +1,1 @@
+"""Undercells: orders below one another, and what stands between them."""
