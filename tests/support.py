@@ -126,3 +126,36 @@ def asker_owns(test, function, *handed):
         spoil(part)
     test.assertEqual(repr(second), repr(kept))
     test.assertEqual(repr(function(*before)), repr(kept))
+
+
+def count_from(order, i, j):
+    """How many of the first i things of an order are from j on."""
+    return sum(1 for thing in order[:i] if thing >= j)
+
+
+def all_bars(one, other):
+    """All bars of two orders, by the words of the document, sorted."""
+    places = range(1, len(one) + 1)
+    return [(i, j) for i in places for j in places if count_from(one, i, j) > count_from(other, i, j)]
+
+
+def drawn_below(draw, order, most):
+    """An order below the one, come to by setting at most so many wrong pairs right."""
+    for k in range(draw.randrange(most + 1)):
+        wrong = [(i, j) for j in range(2, len(order) + 1) for i in range(1, j) if order[i - 1] > order[j - 1]]
+        if wrong:
+            order = swapped(order, *draw.choice(wrong))
+    return order
+
+
+def drawn_pairs(seed, many, least=1, most=20):
+    """Pairs of orders, most of them one below the other, some of them not, some of them alike."""
+    draw = random.Random(seed)
+    pairs = []
+    for order in drawn_orders(seed, many, least, most):
+        pairs.append((drawn_below(draw, order, 3), order))
+        pairs.append((drawn_below(draw, order, 30), order))
+        pairs.append((order, drawn_below(draw, order, 3)))
+        pairs.append((order, drawn_order(draw, len(order))))
+        pairs.append((drawn_below(draw, order, 4), drawn_below(draw, order, 4)))
+    return pairs
