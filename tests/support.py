@@ -2,6 +2,7 @@
 
 import copy
 import itertools
+import math
 import random
 
 from undercells import errors
@@ -159,3 +160,197 @@ def drawn_pairs(seed, many, least=1, most=20):
         pairs.append((order, drawn_order(draw, len(order))))
         pairs.append((drawn_below(draw, order, 4), drawn_below(draw, order, 4)))
     return pairs
+
+
+def exchanges(order):
+    """All orders that come of one by exchanging the things at two places."""
+    return [swapped(order, i, j) for i, j in itertools.combinations(range(1, len(order) + 1), 2)]
+
+
+def climbed(draw, order, many):
+    """An order with just as many wrong pairs more that the one is below."""
+    for k in range(many):
+        due = inversions(order) + 1
+        order = draw.choice([new for new in exchanges(order) if inversions(new) == due])
+    return order
+
+
+def low_order(draw, n, room):
+    """An order of n things that has at least so many wrong pairs less than the falling one."""
+    order = drawn_order(draw, n)
+    while inversions(order) > n * (n - 1) // 2 - room:
+        order = drawn_order(draw, n)
+    return order
+
+
+def is_under(one, other):
+    """Below by the words of 8; the lengths are looked at first, for they part most pairs."""
+    return inversions(one) <= inversions(other) and not all_bars(one, other)
+
+
+def fall_places(order):
+    """All falls of an order, rising."""
+    return [k for k in range(1, len(order)) if order[k - 1] > order[k]]
+
+
+def all_words(order):
+    """All shortest words of an order."""
+    ends = fall_places(order)
+    if not ends:
+        return [[]]
+    return [word + [k] for k in ends for word in all_words(swapped(order, k, k + 1))]
+
+
+def last_word(order):
+    """A shortest word of an order, found from behind by its last falls."""
+    word = []
+    while fall_places(order):
+        word.insert(0, fall_places(order)[-1])
+        order = swapped(order, word[0], word[0] + 1)
+    return word
+
+
+def drawn_poly(draw, most=40, top=60, great=THIRTY, least=0):
+    powers = sorted(draw.sample(range(-top, top + 1), draw.randint(least, most)))
+    return [(power, draw.choice([-1, 1]) * draw.randint(1, great)) for power in powers]
+
+
+def drawn_sum(draw, n, most=6, polys=(40, 60, THIRTY)):
+    """A sum of orders of n things, of one tuple at least."""
+    orders = all_orders(n)
+    some = draw.sample(orders, draw.randint(1, min(most, len(orders))))
+    return [(order, drawn_poly(draw, *polys, least=1)) for order in sorted(some)]
+
+
+def small_sum(draw, n, most=6):
+    """A sum with small polynomials, so that much cancels."""
+    return drawn_sum(draw, n, most, (3, 2, 2))
+
+
+def look_at_poly(test, told):
+    """Look that a told thing has the form of a polynomial."""
+    test.assertIs(type(told), list)
+    for term in told:
+        test.assertIs(type(term), tuple)
+        test.assertEqual([type(part) for part in term], [int, int])
+        test.assertNotEqual(term[1], 0)
+    powers = [power for power, number in told]
+    test.assertEqual(powers, sorted(set(powers)))
+
+
+def look_at_sum(test, told):
+    """Look that a told thing has the form of a sum."""
+    test.assertIs(type(told), list)
+    for part in told:
+        test.assertIs(type(part), tuple)
+        test.assertEqual(len(part), 2)
+        order, poly = part
+        test.assertIs(type(order), tuple)
+        test.assertEqual(sorted(order), list(range(1, len(order) + 1)))
+        look_at_poly(test, poly)
+        test.assertNotEqual(poly, [])
+    orders = [order for order, poly in told]
+    test.assertEqual(orders, sorted(set(orders)))
+    test.assertLessEqual(len({len(order) for order in orders}), 1)
+
+
+# Sums reckoned apart from the program: dicts of numbers by order and power, none of them 0.
+
+def flat(told):
+    return {(order, power): number for order, poly in told for power, number in poly}
+
+
+def flat_added(one, other):
+    found = dict(one)
+    for key, number in other.items():
+        found[key] = found.get(key, 0) + number
+    return {key: number for key, number in found.items() if number}
+
+
+def flat_scaled(poly, one):
+    found = {}
+    for power, number in poly:
+        found = flat_added(found, {(order, at + power): many * number for (order, at), many in one.items()})
+    return found
+
+
+def flat_by_exchange(one, k):
+    found = {(swapped(order, k, k + 1), power): number for (order, power), number in one.items()}
+    at_a_fall = {(order, power): number for (order, power), number in one.items() if order[k - 1] > order[k]}
+    return flat_added(found, flat_scaled([(-1, 1), (1, -1)], at_a_fall))
+
+
+def flat_product(one, other):
+    """The product of a flat sum and a sum, by a shortest word of each order."""
+    found = {}
+    for order, poly in other:
+        part = one
+        for k in last_word(order):
+            part = flat_by_exchange(part, k)
+        found = flat_added(found, flat_scaled(poly, part))
+    return found
+
+
+def alone(order):
+    """The sum of an order before which 1 stands."""
+    return [(order, [(0, 1)])]
+
+
+def in_v(poly):
+    """A polynomial in z with v, less the back of v, put for z."""
+    found = {}
+    for power, number in poly:
+        for k in range(power + 1):
+            at = 2 * k - power
+            found[at] = found.get(at, 0) + number * math.comb(power, k) * (-1) ** (power - k)
+    return sorted((at, number) for at, number in found.items() if number)
+
+
+def reckoned_rest(one, other, draw, known):
+    """The rest of one in other by the words of 16, by a drawn fall at each step."""
+    if (one, other) not in known:
+        if one == other:
+            known[one, other] = {0: 1}
+        elif not is_under(one, other):
+            known[one, other] = {}
+        else:
+            k = draw.choice(fall_places(other))
+            less = swapped(other, k, k + 1)
+            found = dict(reckoned_rest(swapped(one, k, k + 1), less, draw, known))
+            if k not in fall_places(one):
+                for power, number in reckoned_rest(one, less, draw, known).items():
+                    found[power + 1] = found.get(power + 1, 0) + number
+            known[one, other] = found
+    return known[one, other]
+
+
+def beyond_pairs(n, most):
+    """Pairs of orders of n things with too many wrong pairs more, below one another and not."""
+    draw = random.Random(n)
+    pairs = [(rising(n), falling(n)), (swapped(rising(n), 1, 2), (1,) + falling(n)[:-1])]
+    for many in [most + 1, most + 2, most + 5]:
+        for k in range(3):
+            one = low_order(draw, n, many)
+            pairs.append((one, climbed(draw, one, many)))
+            # Not below: the first thing of the one is greater than that of the other.
+            most_there = (n - 1) * (n - 2) // 2
+            rest = climbed(draw, rising(n - 1), min(many + 1, most_there))
+            pairs.append((swapped(rising(n), 1, 2), (1,) + tuple(thing + 1 for thing in rest)))
+    return pairs
+
+
+def look_at_bounds(test, function, most):
+    """Look at the refusals of what is told of five things, and of eight with at most so many wrong pairs more."""
+    for n in [6, 7, 8]:
+        for one, other in beyond_pairs(n, most):
+            refused(test, errors.TooMany, function, one, other)
+    for n in range(9, 21):
+        step = swapped(rising(n), 1, 2)
+        for one, other in [
+            (rising(n), rising(n)), (falling(n), falling(n)), (rising(n), falling(n)), (falling(n), rising(n)),
+            (rising(n), step), (step, swapped(rising(n), 2, 3)),
+        ]:
+            refused(test, errors.TooMany, function, one, other)
+    for n, m in itertools.permutations(range(1, 21), 2):
+        refused(test, errors.NoPair, function, rising(n), falling(m))
+        refused(test, errors.NoPair, function, falling(n), falling(m))

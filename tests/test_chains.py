@@ -5,18 +5,13 @@ import random
 import unittest
 
 from tests.support import (
-    all_bars, all_orders, asker_owns, drawn_below, drawn_order, drawn_orders, drawn_pairs, falling, inversions,
-    refused, rising, swapped, walked,
+    all_bars, all_orders, asker_owns, climbed, drawn_below, drawn_order, drawn_orders, drawn_pairs, exchanges, falling,
+    inversions, is_under, low_order, refused, rising, swapped, walked,
 )
 from undercells.below import bar, is_below
 from undercells.chains import between, chain, kept_places, steps_above, steps_below
 from undercells.errors import NoPair, TooMany
 from undercells.words import first_word
-
-
-def exchanges(order):
-    """All orders that come of one by exchanging the things at two places."""
-    return [swapped(order, i, j) for i, j in itertools.combinations(range(1, len(order) + 1), 2)]
 
 
 class Alike(unittest.TestCase):
@@ -137,19 +132,6 @@ class Steps(unittest.TestCase):
             asker_owns(self, steps_below, order)
 
 
-def is_under(one, other):
-    """Below by the words of 8; the lengths are looked at first, for they part most pairs."""
-    return inversions(one) <= inversions(other) and not all_bars(one, other)
-
-
-def climbed(draw, order, many):
-    """An order with just as many wrong pairs more that the one is below."""
-    for k in range(many):
-        due = inversions(order) + 1
-        order = draw.choice([new for new in exchanges(order) if inversions(new) == due])
-    return order
-
-
 def near(one, many):
     """All orders that come of one by at most so many exchanges, each making a wrong pair."""
     found = {one}
@@ -212,9 +194,7 @@ class Between(unittest.TestCase):
         draw = random.Random(49)
         for n in [7, 8, 9]:
             for many in [0, 1, 2, 3, 3, 4, 4, 4]:
-                one = drawn_order(draw, n)
-                while inversions(one) > n * (n - 1) // 2 - 4:
-                    one = drawn_order(draw, n)
+                one = low_order(draw, n, 4)
                 other = climbed(draw, one, many)
                 told = between(one, other)
                 self.assertEqual(told, sorted(order for order in near(one, many) if is_under(order, other)))

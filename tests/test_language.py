@@ -62,6 +62,14 @@ def bound_names(tree):
     return found
 
 
+FLEETING = "range enumerate zip reversed items keys values".split()
+
+
+def called(node):
+    """The name of what a call calls, of a method its last name."""
+    return getattr(node.func, "id", getattr(node.func, "attr", None))
+
+
 class Language(unittest.TestCase):
 
     def test_files(self):
@@ -144,6 +152,44 @@ class Language(unittest.TestCase):
         own |= {part.name for name, node in nodes(ast.ClassDef) for part in node.body if hasattr(part, "name")}
         for name, node in nodes(ast.Attribute):
             self.assertIn(node.attr, METHODS | own, name)
+
+    def test_iterated_at_once(self):
+        """What only lasts for one look is not stored, told or handed on, but to what looks at once."""
+        takers = "list tuple dict sorted sum any all enumerate zip bytes min max len reversed set join".split()
+        for name, tree in trees():
+            at_once = []
+            for node in ast.walk(tree):
+                if isinstance(node, (ast.For, ast.comprehension)):
+                    at_once.append(node.iter)
+                elif isinstance(node, ast.Call) and called(node) in takers:
+                    at_once.extend(node.args[:1] if called(node) != "zip" else node.args)
+                elif isinstance(node, ast.Compare) and isinstance(node.ops[0], (ast.In, ast.NotIn)):
+                    at_once.extend(node.comparators)
+            for node in ast.walk(tree):
+                if isinstance(node, ast.Call) and called(node) in FLEETING:
+                    self.assertIn(node, at_once, (name, node.lineno))
+
+    def test_lists_at_module_level_are_only_read(self):
+        lists = set()
+        for name, tree in trees():
+            lists |= {
+                part.targets[0].id for part in tree.body
+                if isinstance(part, ast.Assign) and isinstance(part.value, (ast.List, ast.Dict))
+            }
+        for name, tree in trees():
+            read = []
+            for node in ast.walk(tree):
+                if isinstance(node, (ast.For, ast.comprehension)):
+                    read.append(node.iter)
+                elif isinstance(node, ast.Call) and called(node) in ["list", "dict", "len", "sorted", "tuple"]:
+                    read.extend(node.args)
+                elif isinstance(node, (ast.Subscript, ast.Attribute)) and isinstance(node.ctx, ast.Load):
+                    read.append(node.value)
+                elif isinstance(node, ast.Compare):
+                    read.extend([node.left] + node.comparators)
+            for node in ast.walk(tree):
+                if isinstance(node, ast.Name) and node.id in lists and isinstance(node.ctx, ast.Load):
+                    self.assertIn(node, read, (name, node.lineno))
 
     def test_module_level(self):
         allowed = (ast.Expr, ast.ImportFrom, ast.FunctionDef, ast.ClassDef, ast.Assign)

@@ -3,15 +3,10 @@
 import random
 import unittest
 
-from tests.support import THIRTY, asker_owns
+from tests.support import THIRTY, asker_owns, drawn_poly, look_at_poly
 from undercells.polys import plus, times, turned
 
 ONE = [(0, 1)]
-
-
-def drawn_poly(draw, most=40, top=60, great=THIRTY):
-    powers = sorted(draw.sample(range(-top, top + 1), draw.randrange(most + 1)))
-    return [(power, draw.choice([-1, 1]) * draw.randint(1, great)) for power in powers]
 
 
 def number_at(poly, power):
@@ -25,28 +20,19 @@ def value_at(poly, v):
 
 class Polys(unittest.TestCase):
 
-    def look_at_form(self, told):
-        self.assertIs(type(told), list)
-        for term in told:
-            self.assertIs(type(term), tuple)
-            self.assertEqual([type(part) for part in term], [int, int])
-            self.assertNotEqual(term[1], 0)
-        powers = [power for power, number in told]
-        self.assertEqual(powers, sorted(set(powers)))
-
     def look_at(self, one, other):
         total = plus(one, other)
-        self.look_at_form(total)
+        look_at_poly(self, total)
         for power in {power for power, number in one + other + total}:
             self.assertEqual(number_at(total, power), number_at(one, power) + number_at(other, power))
         product = times(one, other)
-        self.look_at_form(product)
+        look_at_poly(self, product)
         for power in range(-121, 122):
             due = sum(number * number_at(other, power - at) for at, number in one)
             self.assertEqual(number_at(product, power), due)
         self.assertTrue(all(abs(power) <= 120 for power, number in product))
         for poly in [one, other]:
-            self.look_at_form(turned(poly))
+            look_at_poly(self, turned(poly))
             self.assertEqual(turned(poly), sorted((-power, number) for power, number in poly))
 
     def test_by_hand(self):
@@ -108,7 +94,7 @@ class Polys(unittest.TestCase):
         for k in range(3):
             one, other, third = drawn_poly(draw), drawn_poly(draw), drawn_poly(draw)
             product = times(times(one, other), times(third, third))
-            self.look_at_form(product)
+            look_at_poly(self, product)
             self.assertEqual(product, times(one, times(other, times(third, third))))
             self.assertEqual(value_at(product, 3) * 3 ** 12000,
                              value_at(one, 3) * value_at(other, 3) * value_at(third, 3) ** 2)

@@ -1,8 +1,8 @@
 """Kept places, chains, steps, and the orders between two orders."""
 
 from undercells.below import is_below
-from undercells.errors import TooMany
-from undercells.orders import back, exchanged, exchanged_places, length, need_pair, plain_order, wrong_pairs
+from undercells.bounds import need_bounds
+from undercells.orders import back, exchanged, exchanged_places, need_pair, place_pairs, plain_order, wrong_pairs
 from undercells.words import first_word
 
 MOST_THINGS = 6
@@ -62,8 +62,7 @@ def steps(order, pairs):
 
 def steps_above(order):
     """All orders that come of one by an exchange that makes just one wrong pair more, sorted."""
-    n = len(order)
-    return steps(order, [(i, j) for i in range(1, n) for j in range(i + 1, n + 1) if order[i - 1] < order[j - 1]])
+    return steps(order, [(i, j) for i, j in place_pairs(len(order)) if order[i - 1] < order[j - 1]])
 
 
 def steps_below(order):
@@ -71,18 +70,10 @@ def steps_below(order):
     return steps(order, wrong_pairs(order))
 
 
-def is_beyond(one, other):
-    """Whether what is between two orders is beyond the bounds."""
-    if len(one) <= MOST_THINGS:
-        return False
-    return len(one) > MOST_CLIMBED_THINGS or length(other) - length(one) > MOST_CLIMBED_PAIRS
-
-
 def between(one, other):
     """All orders that one is below and that are below other, sorted."""
     need_pair(one, other)
-    if is_beyond(one, other):
-        raise TooMany("too many things, or too many wrong pairs more")
+    need_bounds(one, other, MOST_THINGS, MOST_CLIMBED_THINGS, MOST_CLIMBED_PAIRS)
     if not is_below(one, other):
         return []
     looked_at = {one: True}

@@ -63,10 +63,14 @@ def exchanged(order, k):
     return exchanged_places(order, k, k + 1)
 
 
+def place_pairs(n):
+    """All pairs of places (i, j) of n things, i below j, sorted."""
+    return [(i, j) for i in range(1, n) for j in range(i + 1, n + 1)]
+
+
 def wrong_pairs(order):
     """All pairs of places at whose first one the greater thing stands, sorted."""
-    n = len(order)
-    return [(i, j) for i in range(1, n) for j in range(i + 1, n + 1) if order[i - 1] > order[j - 1]]
+    return [(i, j) for i, j in place_pairs(len(order)) if order[i - 1] > order[j - 1]]
 
 
 def length(order):

@@ -1,5 +1,8 @@
 """Polynomials: lists of tuples (power, number), powers rising, no number 0."""
 
+# The letter v, less its back.
+LESS_BACK = [(-1, -1), (1, 1)]
+
 
 def as_polynomial(numbers):
     """The polynomial of a dict of numbers by powers, of which some may be 0."""
