@@ -72,6 +72,30 @@ def walked(n, word):
     return order
 
 
+def back_of(order):
+    """The back of an order, reckoned apart from the program."""
+    return tuple(order.index(thing) + 1 for thing in range(1, len(order) + 1))
+
+
+def drawn_letters(draw, many, top):
+    """A row of as many letters, none above the top."""
+    return [draw.randint(1, top) for k in range(many)]
+
+
+def moved_by_words(row):
+    """All rows that come of a row by one move, by the words of 25, sorted."""
+    found = []
+    for at in range(len(row) - 2):
+        one, two, three = row[at:at + 3]
+        news = []
+        if one <= three < two or two <= three < one:
+            news.append([two, one, three])
+        if two < one <= three or three < one <= two:
+            news.append([one, three, two])
+        found.extend(row[:at] + new + row[at + 3:] for new in news)
+    return [new for k, new in enumerate(sorted(found)) if new not in sorted(found)[:k]]
+
+
 def refused(test, error, function, *handed):
     """Look that a call is refused with just this class, and changes nothing handed in."""
     before = copy.deepcopy(handed)

@@ -6,18 +6,14 @@ import unittest
 from unittest import mock
 
 from tests.support import (
-    all_orders, alone, asker_owns, drawn_order, fall_places, falling, inversions, is_under, look_at_sum, refused,
-    rising, swapped,
+    all_orders, alone, asker_owns, back_of, drawn_order, fall_places, falling, inversions, is_under, look_at_sum,
+    refused, rising, swapped,
 )
 from undercells import kept
 from undercells.errors import NoPair, TooMany
 from undercells.kept import kept_sum, lead
 from undercells.sums import added, product, scaled
 from undercells.turning import turning
-
-
-def back_of(order):
-    return tuple(order.index(thing) + 1 for thing in range(1, len(order) + 1))
 
 
 class KeptSums(unittest.TestCase):

@@ -52,3 +52,16 @@ def lead(one, other):
     need_pair(one, other)
     need_few(other)
     return number_at_one(dict(found_kept(other, {})).get(one, []))
+
+
+def leads_among(orders):
+    """By pairs of orders, either way round, the lead of the lower one in the upper one where it is other than 0."""
+    known = {}
+    told = {}
+    for upper in orders:
+        for lower, poly in found_kept(upper, known):
+            number = number_at_one(poly)
+            if number != 0:
+                told[(lower, upper)] = number
+                told[(upper, lower)] = number
+    return told
