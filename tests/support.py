@@ -348,6 +348,26 @@ def reckoned_rest(one, other, draw, known):
     return known[one, other]
 
 
+def reckoned_leads(n):
+    """The leads other than 0 by pairs (lower, upper), by the rests, apart from the kept sums of the program."""
+    draw = random.Random(181)
+    rests = {}
+    leads = {}
+    for upper in all_orders(n):
+        polys = {upper: {0: 1}}
+        under = [order for order in all_orders(n) if is_under(order, upper) and order != upper]
+        for lower in sorted(under, key=inversions, reverse=True):
+            total = {}
+            for middle, poly in polys.items():
+                rest = in_v(sorted(reckoned_rest(lower, middle, draw, rests).items()))
+                for (power, number), (high, many) in itertools.product(poly.items(), rest):
+                    total[high - power] = total.get(high - power, 0) + number * many
+            polys[lower] = {power: number for power, number in total.items() if power > 0 and number}
+            if polys[lower].get(1, 0):
+                leads[lower, upper] = polys[lower][1]
+    return leads
+
+
 def beyond_pairs(n, most):
     """Pairs of orders of n things with too many wrong pairs more, below one another and not."""
     draw = random.Random(n)

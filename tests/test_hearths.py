@@ -1,11 +1,9 @@
 """Points 2 and 26: right hearths, left hearths, and hearths of both."""
 
-import itertools
-import random
 import unittest
 
 from tests.support import (
-    all_orders, asker_owns, back_of, fall_places, in_v, inversions, is_under, reckoned_rest, refused, rising, swapped,
+    all_orders, asker_owns, back_of, fall_places, inversions, reckoned_leads, refused, rising, swapped,
 )
 from undercells.errors import TooMany
 from undercells.hearths import both_hearths, left_hearths, right_hearths
@@ -15,26 +13,6 @@ from undercells.sums import added, product, scaled
 from undercells.tables import shape, tables
 
 ALL = [right_hearths, left_hearths, both_hearths]
-
-
-def reckoned_leads(n):
-    """The leads other than 0 by pairs (lower, upper), by the rests, apart from the kept sums of the program."""
-    draw = random.Random(181)
-    rests = {}
-    leads = {}
-    for upper in all_orders(n):
-        polys = {upper: {0: 1}}
-        under = [order for order in all_orders(n) if is_under(order, upper) and order != upper]
-        for lower in sorted(under, key=inversions, reverse=True):
-            total = {}
-            for middle, poly in polys.items():
-                rest = in_v(sorted(reckoned_rest(lower, middle, draw, rests).items()))
-                for (power, number), (high, many) in itertools.product(poly.items(), rest):
-                    total[high - power] = total.get(high - power, 0) + number * many
-            polys[lower] = {power: number for power, number in total.items() if power > 0 and number}
-            if polys[lower].get(1, 0):
-                leads[lower, upper] = polys[lower][1]
-    return leads
 
 
 def reckoned_right(n):

@@ -18,7 +18,8 @@ BUILTINS = set(
 METHODS = set(
     "append clear copy count endswith extend find get index insert isalnum isalpha isdigit islower isspace isupper "
     "items join keys ljust lower lstrip partition pop remove replace reverse rfind rjust rpartition rsplit rstrip "
-    "setdefault split splitlines startswith strip update upper values zfill bit_length add discard sort".split())
+    "setdefault split splitlines startswith strip update upper values zfill bit_length add discard sort "
+    "removeprefix removesuffix".split())
 
 BARRED_NODES = (
     ast.With, ast.Match, ast.Global, ast.Nonlocal, ast.Yield, ast.YieldFrom, ast.AsyncFunctionDef, ast.AsyncFor,
@@ -135,7 +136,7 @@ class Language(unittest.TestCase):
                 alias.name for node in ast.walk(tree) if isinstance(node, ast.ImportFrom) for alias in node.names
             ]
             for bound in bound_names(tree):
-                self.assertRegex(bound, r"^[A-Za-z][A-Za-z0-9_]*$", name)
+                self.assertRegex(bound, r"^([A-Za-z][A-Za-z0-9_]*|__init__)$", name)
                 self.assertNotIn(bound, dir(builtins), name)
                 self.assertNotIn(bound, BARRED_NAMES, name)
                 self.assertNotIn(bound, imported, name)

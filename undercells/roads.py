@@ -31,6 +31,11 @@ def turned_threes(word):
     ]
 
 
+def left_out(word):
+    """All words in which two neighbours alike are left out."""
+    return [word[:at] + word[at + 2:] for at in range(len(word) - 1) if word[at] == word[at + 1]]
+
+
 def traced(ahead, last):
     """The words from the first one, which has none ahead, to the last, as new lists."""
     told = []
